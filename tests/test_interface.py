@@ -9,6 +9,11 @@ LISTED = {
     "bytesets": ["set_of", "range_set", "has", "without", "ranges_of"],
     "trees": ["some", "row", "any_of", "all_of", "but", "again", "times"],
     "derivatives": ["has_empty", "derivative"],
+    "bookreader": ["read_book"],
+    "bookwriting": ["book_text"],
+    "meaning": ["is_in", "told_in"],
+    "tables": ["table_of", "run", "step", "state_behind"],
+    "least": ["least", "bits_for"],
 }
 ARGUMENTS = {
     "BadThing": ["thing"], "BadText": ["line", "column"], "BadBook": ["name"], "BadPaper": ["at"],
@@ -18,6 +23,9 @@ ARGUMENTS = {
     "row": ["a", "b"], "any_of": ["trees"], "all_of": ["trees"], "but": ["a"], "again": ["a"],
     "times": ["a", "least", "most"],
     "has_empty": ["tree"], "derivative": ["tree", "byte"],
+    "read_book": ["text"], "book_text": ["book"], "is_in": ["tree", "packet"], "told_in": ["book", "packet"],
+    "table_of": ["book"], "run": ["table", "packet"], "step": ["table", "state", "byte"],
+    "state_behind": ["table", "packet"], "least": ["table"], "bits_for": ["many"],
 }
 
 
