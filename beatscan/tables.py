@@ -13,7 +13,7 @@ def table_of(book):
     """A table (classes, rows, tells, ends) that tells what a book means."""
     trees = [first_tree(rule) for rule in book]
     classes = byte_classes(sets_in(trees))
-    left = Leftovers([classes.index(number) for number in range(max(classes) + 1)])
+    left = Leftovers(tries_of(classes))
     states = [tuple(left.numbered(tree) for tree in trees)]
     numbers = {states[0]: 0}
     rows = []
@@ -68,7 +68,11 @@ def step(table, state, byte):
 
 def run(table, packet):
     """What a table tells of a packet, as told_in."""
-    state = 0
+    return run_from(table, 0, packet)
+
+
+def run_from(table, state, packet):
+    """What a table tells of bytes that come behind those that lead to a state, and at their end."""
     told = []
     for byte in packet:
         state, rules = step(table, state, byte)
@@ -83,3 +87,8 @@ def state_behind(table, packet):
     for byte in packet:
         state = step(table, state, byte)[0]
     return state
+
+
+def tries_of(classes):
+    """The list of the least bytes of the classes."""
+    return [classes.index(number) for number in range(max(classes) + 1)]

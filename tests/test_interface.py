@@ -14,6 +14,11 @@ LISTED = {
     "meaning": ["is_in", "told_in"],
     "tables": ["table_of", "run", "step", "state_behind"],
     "least": ["least", "bits_for"],
+    "papers": ["paper_of", "is_paper", "told_from"],
+    "same": ["apart_packet"],
+    "beats": ["scan", "packets_in", "are_beats", "cut_packet", "mixed"],
+    "nets": ["net_told", "lanes_told", "bits_of", "number_of", "check_net", "depth_of", "net_of_functions"],
+    "codes": ["state_bits", "class_bits", "rules_in", "class_net", "step_net", "end_net"],
 }
 ARGUMENTS = {
     "BadThing": ["thing"], "BadText": ["line", "column"], "BadBook": ["name"], "BadPaper": ["at"],
@@ -26,6 +31,14 @@ ARGUMENTS = {
     "read_book": ["text"], "book_text": ["book"], "is_in": ["tree", "packet"], "told_in": ["book", "packet"],
     "table_of": ["book"], "run": ["table", "packet"], "step": ["table", "state", "byte"],
     "state_behind": ["table", "packet"], "least": ["table"], "bits_for": ["many"],
+    "paper_of": ["table"], "is_paper": ["table", "paper"], "told_from": ["table", "state", "packet"],
+    "apart_packet": ["one", "other"],
+    "scan": ["table", "beats"], "packets_in": ["beats"], "are_beats": ["thing", "width"], "cut_packet": ["flow", "packet", "sizes"],
+    "mixed": ["rows", "turns"],
+    "net_told": ["net", "bits"], "lanes_told": ["net", "columns", "many"], "bits_of": ["number", "many"],
+    "number_of": ["bits"], "check_net": ["net", "fan"], "depth_of": ["net"], "net_of_functions": ["many", "functions"],
+    "state_bits": ["table"], "class_bits": ["table"], "rules_in": ["table"], "class_net": ["table"],
+    "step_net": ["table", "rules"], "end_net": ["table", "rules"],
 }
 
 
