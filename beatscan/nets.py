@@ -4,6 +4,7 @@ Signals are numbers: 0 and 1 are these words, inputs stand from 2 on, then gates
 """
 
 from beatscan.errors import BadNet
+from beatscan.growing import Growing
 from beatscan.kinds import is_number
 
 # The words of the gate (bit, low, high): low where the bit is 0, high where it is 1.
@@ -31,6 +32,11 @@ def lanes_told(net, columns, many):
             left = [low ^ (column & (low ^ high)) for low, high in zip(left[::2], left[1::2])]
         values.append(left[0])
     return tuple(values[signal] for signal in outputs)
+
+
+def columns_of(rows, many):
+    """For each of so many places in rows of bits an integer with a bit for each row, as lanes."""
+    return [sum(row[at] << lane for lane, row in enumerate(rows)) for at in range(many)]
 
 
 def bits_of(number, many):
@@ -83,25 +89,24 @@ def levels_of(net):
 
 def net_of_functions(many, functions):
     """A net for functions of so many bits, each told by its words for all values of them, read as a number."""
-    gates = []
+    grown = Growing(many)
     known = {}
     outputs = []
     for words in functions:
         # 0 and 1 are signals, too: functions of no bit, to begin with, out of which those of one bit more are chosen.
         left = list(words)
-        for bit in reversed(range(many)):
-            left = [choice(2 + bit, low, high, gates, known, many) for low, high in zip(left[::2], left[1::2])]
+        for bit in reversed(range(2, 2 + many)):
+            left = [choice(bit, low, high, grown, known) for low, high in zip(left[::2], left[1::2])]
         outputs.append(left[0])
-    return (many, tuple(gates), tuple(outputs))
+    return grown.with_outputs(outputs)
 
 
-def choice(bit, low, high, gates, known, inputs):
+def choice(bit, low, high, grown, known):
     """The signal that is low where the bit is 0, and high where it is 1, by a gate if one is needed and not known."""
     if low == high:
         return low
     if (low, high) == (0, 1):
         return bit
     if (bit, low, high) not in known:
-        known[bit, low, high] = 2 + inputs + len(gates)
-        gates.append(((bit, low, high), CHOICE))
+        known[bit, low, high] = grown.gate((bit, low, high), CHOICE)
     return known[bit, low, high]

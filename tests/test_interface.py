@@ -19,6 +19,14 @@ LISTED = {
     "beats": ["scan", "packets_in", "are_beats", "cut_packet", "mixed"],
     "nets": ["net_told", "lanes_told", "bits_of", "number_of", "check_net", "depth_of", "net_of_functions"],
     "codes": ["state_bits", "class_bits", "rules_in", "class_net", "step_net", "end_net"],
+    "gathering": ["gathered"],
+    "netchecks": ["wrong_class_net", "wrong_step_net", "wrong_end_net", "check_nets"],
+    "wide": ["wide_net"],
+    "gated": ["Gated"],
+    "fooled": ["check_circuit", "circuit_run", "circuit_of", "failing_packet", "fooled"],
+}
+METHODS = {
+    ("gated", "Gated"): {"scan": ["beats"]},
 }
 ARGUMENTS = {
     "BadThing": ["thing"], "BadText": ["line", "column"], "BadBook": ["name"], "BadPaper": ["at"],
@@ -33,12 +41,17 @@ ARGUMENTS = {
     "state_behind": ["table", "packet"], "least": ["table"], "bits_for": ["many"],
     "paper_of": ["table"], "is_paper": ["table", "paper"], "told_from": ["table", "state", "packet"],
     "apart_packet": ["one", "other"],
-    "scan": ["table", "beats"], "packets_in": ["beats"], "are_beats": ["thing", "width"], "cut_packet": ["flow", "packet", "sizes"],
-    "mixed": ["rows", "turns"],
+    "scan": ["table", "beats"], "packets_in": ["beats"], "are_beats": ["thing", "width"],
+    "cut_packet": ["flow", "packet", "sizes"], "mixed": ["rows", "turns"],
     "net_told": ["net", "bits"], "lanes_told": ["net", "columns", "many"], "bits_of": ["number", "many"],
     "number_of": ["bits"], "check_net": ["net", "fan"], "depth_of": ["net"], "net_of_functions": ["many", "functions"],
     "state_bits": ["table"], "class_bits": ["table"], "rules_in": ["table"], "class_net": ["table"],
     "step_net": ["table", "rules"], "end_net": ["table", "rules"],
+    "gathered": ["net", "fan"], "wrong_class_net": ["net", "table"], "wrong_step_net": ["net", "table"],
+    "wrong_end_net": ["net", "table"], "check_nets": ["nets", "table", "fan", "rules"],
+    "wide_net": ["nets", "width", "bits"], "Gated": ["table", "width", "fan"],
+    "check_circuit": ["circuit", "fan"], "circuit_run": ["circuit", "packet"], "circuit_of": ["nets", "bits", "rules"],
+    "failing_packet": ["circuit", "table"], "fooled": ["circuit", "paper"],
 }
 
 
@@ -56,3 +69,10 @@ class Interface(unittest.TestCase):
                 if name in ARGUMENTS:
                     arguments = list(inspect.signature(getattr(module, name)).parameters)
                     self.assertEqual(arguments, ARGUMENTS[name], name)
+
+    def test_methods_stand_in_their_class(self):
+        for (file, name), methods in METHODS.items():
+            made = getattr(importlib.import_module(f"beatscan.{file}"), name)
+            for method, arguments in methods.items():
+                self.assertIn(method, vars(made), name)
+                self.assertEqual(list(inspect.signature(vars(made)[method]).parameters)[1:], arguments, name)
