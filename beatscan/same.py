@@ -9,7 +9,7 @@ def apart_packet(one, other):
     """The shortest, then least packet of which two books tell unlike names, None if there is none."""
     tables = (table_of_names(one), table_of_names(other))
     pairs = list(zip(tables[0][0], tables[1][0]))
-    tries = [byte for byte, pair in enumerate(pairs) if pairs.index(pair) == byte]
+    tries = [at for at, pair in enumerate(pairs) if pairs.index(pair) == at]
 
     def is_apart(states):
         # None stands for the place behind a byte on which unlike names are told.
