@@ -56,3 +56,15 @@ def random_beats(dice, many, width, flows=(1, 2, 3), signs=SIGNS):
     """Beats of several flows: packets given up, begun without is_first, left open, beats of no bytes."""
     return [(dice.choice(flows), dice.random() < 0.15, random_packet(dice, width, signs), dice.random() < 0.25)
             for _ in range(many)]
+
+
+def any_table(dice, states, classes, rules):
+    """A table that need not be least: unlike states may do the same, or be led to by nothing."""
+    numbers = list(range(classes)) + [dice.randrange(classes) for _ in range(256 - classes)]
+    dice.shuffle(numbers)
+    # Few ways and few things told, so that many entries are alike.
+    targets = [dice.randrange(states) for _ in range(3)]
+    told = [()] + [tuple(sorted(dice.sample(range(rules), dice.randint(0, rules)))) for _ in range(2)]
+    rows = tuple(tuple(dice.choice(targets) for _ in range(classes)) for _ in range(states))
+    tells = tuple(tuple(dice.choice(told) for _ in range(classes)) for _ in range(states))
+    return (tuple(numbers), rows, tells, tuple(dice.choice(told) for _ in range(states)))

@@ -5,42 +5,12 @@ import unittest
 from beatscan.codes import class_net, end_net, rules_in, state_bits, step_net
 from beatscan.errors import BadNet, BadThing
 from beatscan.fooled import check_circuit, circuit_of, circuit_run, failing_packet, fooled
-from beatscan.gathering import gathered
-from beatscan.nets import check_net, net_of_functions
 from beatscan.papers import paper_of
-from beatscan.tables import run, state_behind
-from tests.books import EXAMPLE, SIGNS, least_of, random_packet, random_tables, tables
-from tests.netsets import random_net
-from tests.rowsets import all_packets
+from beatscan.tables import run
+from tests.books import EXAMPLE, least_of, random_packet, random_tables, tables
+from tests.circuits import changed_circuits, random_circuit, right_circuit
 
 SMALL = [table for table in tables() + random_tables(160, 8) if len(table[1]) <= 12]
-
-
-def right_circuit(table, fan=3):
-    rules = rules_in(table)
-    nets = (class_net(table), step_net(table, rules), end_net(table, rules))
-    return circuit_of([gathered(net, fan) for net in nets], state_bits(table), rules)
-
-
-def changed_circuits(dice, circuit, many):
-    """Circuits with one word of one gate of the net changed, or one output."""
-    (inputs, gates, outputs), *rest = circuit
-    for _ in range(many):
-        if gates and dice.random() < 0.7:
-            at = dice.randrange(len(gates))
-            signals, words = gates[at]
-            place = dice.randrange(len(words))
-            gate = (signals, words[:place] + (1 - words[place],) + words[place + 1:])
-            yield ((inputs, gates[:at] + (gate,) + gates[at + 1:], outputs), *rest)
-        elif outputs:
-            at = dice.randrange(len(outputs))
-            signal = dice.randrange(2 + inputs + len(gates))
-            yield ((inputs, gates, outputs[:at] + (signal,) + outputs[at + 1:]), *rest)
-
-
-def random_circuit(dice, bits, rules):
-    net = random_net(dice, 10 + bits, dice.randint(3, 25), bits + 2 * rules)
-    return (net, bits, tuple(dice.randint(0, 1) for _ in range(bits)), rules)
 
 
 def first_failing(circuit, table, most, signs):

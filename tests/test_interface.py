@@ -24,9 +24,26 @@ LISTED = {
     "wide": ["wide_net"],
     "gated": ["Gated"],
     "fooled": ["check_circuit", "circuit_run", "circuit_of", "failing_packet", "fooled"],
+    "defaults": ["is_tree", "best_tree", "entries_of", "is_best", "most_looks", "default_run"],
+    "images": ["image_of", "table_by"],
+    "clocks": ["Clocked", "fed", "most_clocks"],
+    "banks": ["Banked", "banked_run"],
+    "probes": ["probes_for", "first_failing", "words_in", "is_shown_right"],
 }
 METHODS = {
     ("gated", "Gated"): {"scan": ["beats"]},
+    ("clocks", "Clocked"): {"clock": ["beat", "is_ready"], "is_empty": []},
+    ("banks", "Banked"): {"load": ["table"], "switch": [], "give_up": ["flow"], "beat": ["told"]},
+}
+TABLE = ((0,) * 256, ((0,),), (((),),), ((),))
+# The attributes that are listed for a class, and arguments for an object of it.
+ATTRIBUTES = {
+    ("errors", "BadThing"): ((5,), ["thing"]), ("errors", "BadText"): ((1, 2), ["line", "column"]),
+    ("errors", "BadBook"): (("x",), ["name"]), ("errors", "BadPaper"): ((3,), ["at"]),
+    ("errors", "BadNet"): ((3, "why"), ["at", "why"]),
+    ("gated", "Gated"): ((TABLE, 1, 3), ["nets", "net", "bits"]),
+    ("clocks", "Clocked"): ((TABLE, 1, 2), ["store", "first", "second", "row", "out", "taken"]),
+    ("banks", "Banked"): ((TABLE,), ["force", "count"]),
 }
 ARGUMENTS = {
     "BadThing": ["thing"], "BadText": ["line", "column"], "BadBook": ["name"], "BadPaper": ["at"],
@@ -52,6 +69,12 @@ ARGUMENTS = {
     "wide_net": ["nets", "width", "bits"], "Gated": ["table", "width", "fan"],
     "check_circuit": ["circuit", "fan"], "circuit_run": ["circuit", "packet"], "circuit_of": ["nets", "bits", "rules"],
     "failing_packet": ["circuit", "table"], "fooled": ["circuit", "paper"],
+    "is_tree": ["table", "tree"], "best_tree": ["table"], "entries_of": ["table", "tree"], "is_best": ["table", "tree"],
+    "most_looks": ["tree"], "default_run": ["table", "tree", "packet"], "image_of": ["table", "rules"],
+    "Clocked": ["table", "width", "size"], "fed": ["machine", "beats", "readies"],
+    "most_clocks": ["width", "beats", "readies"], "Banked": ["table"], "banked_run": ["table", "deeds"],
+    "probes_for": ["paper", "bytes_tried"], "first_failing": ["circuit", "table", "packets"],
+    "words_in": ["circuit", "most"], "is_shown_right": ["circuit", "table", "paper"],
 }
 
 
@@ -76,3 +99,9 @@ class Interface(unittest.TestCase):
             for method, arguments in methods.items():
                 self.assertIn(method, vars(made), name)
                 self.assertEqual(list(inspect.signature(vars(made)[method]).parameters)[1:], arguments, name)
+
+    def test_attributes_are_set_when_an_object_is_created(self):
+        for (file, name), (arguments, attributes) in ATTRIBUTES.items():
+            made = getattr(importlib.import_module(f"beatscan.{file}"), name)(*arguments)
+            for attribute in attributes:
+                self.assertIn(attribute, vars(made), name)
