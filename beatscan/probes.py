@@ -46,7 +46,8 @@ def words_in(circuit, most):
     seen = {words[0]: True}
     at = 0
     while at < len(words) and len(words) <= most:
-        for word, _ in steps.steps_of(words[at]):
+        ways = steps.steps_of(words[at])
+        for word, _ in ways:
             if word not in seen:
                 seen[word] = True
                 words.append(word)

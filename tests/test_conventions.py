@@ -4,9 +4,10 @@ import copy
 import unittest
 
 from beatscan import (
-    banks, beats, bookreader, bookwriting, bytesets, clocks, codes, defaults, derivatives, fooled, gated, gathering, images,
-    least, meaning, netchecks, nets, papers, probes, same, tables, trees, wide)
-from beatscan.errors import BadNet, BadThing
+    banks, beats, bookreader, bookwriting, bytesets, clocks, codes, defaults, derivatives, flowstores, fooled, gated,
+    gathering, images, least, meaning, netchecks, nets, nettexts, papers, probes, same, smaller, stages, tables, trees, whole,
+    wide)
+from beatscan.errors import BadBook, BadNet, BadText, BadThing
 from tests.books import EXAMPLE, least_of
 from tests.test_interface import LISTED
 
@@ -52,6 +53,12 @@ CALLS = [
     (banks.banked_run, TABLE, [("beat", BEATS[0]), ("load", TABLE), ("switch",), ("give up", 1), ("beat", BEATS[1])]),
     (probes.probes_for, PAPER, [98, 97]), (probes.first_failing, CIRCUIT, TABLE, [(97,), (97, 98)]),
     (probes.words_in, CIRCUIT, 9), (probes.is_shown_right, CIRCUIT, TABLE, PAPER),
+    (stages.many_stages, NET, 1), (stages.registers_in, NET, 1), (stages.staged_run, NET, 1, [[1, 1], [1, 0]]),
+    (stages.staged_run, NET, 0, [[1, 1]]), (nettexts.net_text, NET), (nettexts.net_by, nettexts.net_text(NET)),
+    (nettexts.net_by, "inputs"), (smaller.shortest_in, trees.row(B, A)), (smaller.is_within, A, trees.any_of([A, B])),
+    (smaller.is_alike, A, B), (smaller.smaller, trees.any_of([trees.again(A), trees.row(A, A)])),
+    (whole.least_table, EXAMPLE), (whole.least_table, "x"), (whole.least_table, "x: a*"),
+    (whole.named_reports, BOOK, [(1, 8, 2, (1,)), (2, 7, 0, (0, 1))]),
 ]
 # What a machine tells is a matter of what it was told ahead, too: it is made anew for each call.
 MACHINES = [
@@ -59,16 +66,21 @@ MACHINES = [
     (clocks.Clocked, (TABLE, 2, 3), "is_empty", ()), (banks.Banked, (TABLE,), "load", (TABLE,)),
     (banks.Banked, (TABLE,), "switch", ()), (banks.Banked, (TABLE,), "give_up", (1,)),
     (banks.Banked, (TABLE,), "beat", ((1, True, (97, 98), True),)),
+    (stages.Staged, (NET, 1), "clock", ([1, 1],)), (stages.Staged, (NET, 2), "clock", ([1, 1],)),
+    (flowstores.FlowStore, (5, 3, 8), "read", (4,)), (flowstores.FlowStore, (5, 3, 8), "write", (4, 8)),
+    (whole.gates_for, (EXAMPLE, 2, 4), "scan", (BEATS,)), (whole.clocked_for, (EXAMPLE, 2, 3), "is_empty", ()),
 ]
 # Errors, classes that are called by way of MACHINES, and what changes the machine that it is handed.
-ELSEWHERE = {"ScanError", "BadThing", "BadText", "BadBook", "BadPaper", "BadNet", "Gated", "Clocked", "Banked", "fed"}
+ELSEWHERE = {
+    "ScanError", "BadThing", "BadText", "BadBook", "BadPaper", "BadNet", "Gated", "Clocked", "Banked", "fed", "Staged",
+    "FlowStore", "gates_for", "clocked_for"}
 
 
 def told(call, arguments):
     """What a call returns, or the error that it raises."""
     try:
         return call(*arguments)
-    except (BadThing, BadNet) as e:
+    except (BadThing, BadNet, BadText, BadBook) as e:
         return ("raised", type(e), vars(e))
 
 

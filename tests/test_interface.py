@@ -29,11 +29,18 @@ LISTED = {
     "clocks": ["Clocked", "fed", "most_clocks"],
     "banks": ["Banked", "banked_run"],
     "probes": ["probes_for", "first_failing", "words_in", "is_shown_right"],
+    "stages": ["many_stages", "registers_in", "Staged", "staged_run"],
+    "nettexts": ["net_text", "net_by"],
+    "smaller": ["shortest_in", "is_within", "is_alike", "smaller"],
+    "flowstores": ["FlowStore"],
+    "whole": ["least_table", "gates_for", "clocked_for", "named_reports"],
 }
 METHODS = {
     ("gated", "Gated"): {"scan": ["beats"]},
     ("clocks", "Clocked"): {"clock": ["beat", "is_ready"], "is_empty": []},
     ("banks", "Banked"): {"load": ["table"], "switch": [], "give_up": ["flow"], "beat": ["told"]},
+    ("stages", "Staged"): {"clock": ["bits"]},
+    ("flowstores", "FlowStore"): {"read": ["flow"], "write": ["flow", "state"]},
 }
 TABLE = ((0,) * 256, ((0,),), (((),),), ((),))
 # The attributes that are listed for a class, and arguments for an object of it.
@@ -44,6 +51,7 @@ ATTRIBUTES = {
     ("gated", "Gated"): ((TABLE, 1, 3), ["nets", "net", "bits"]),
     ("clocks", "Clocked"): ((TABLE, 1, 2), ["store", "first", "second", "row", "out", "taken"]),
     ("banks", "Banked"): ((TABLE,), ["force", "count"]),
+    ("flowstores", "FlowStore"): ((5, 3, 8), ["words"]),
 }
 ARGUMENTS = {
     "BadThing": ["thing"], "BadText": ["line", "column"], "BadBook": ["name"], "BadPaper": ["at"],
@@ -75,6 +83,11 @@ ARGUMENTS = {
     "most_clocks": ["width", "beats", "readies"], "Banked": ["table"], "banked_run": ["table", "deeds"],
     "probes_for": ["paper", "bytes_tried"], "first_failing": ["circuit", "table", "packets"],
     "words_in": ["circuit", "most"], "is_shown_right": ["circuit", "table", "paper"],
+    "many_stages": ["net", "most"], "registers_in": ["net", "most"], "Staged": ["net", "most"],
+    "staged_run": ["net", "most", "rows"], "net_text": ["net"], "net_by": ["text"], "shortest_in": ["tree"],
+    "is_within": ["one", "other"], "is_alike": ["one", "other"], "smaller": ["tree"],
+    "FlowStore": ["flows", "bits", "width"], "least_table": ["text"], "gates_for": ["text", "width", "fan"],
+    "clocked_for": ["text", "width", "size"], "named_reports": ["book", "reports"],
 }
 
 

@@ -2,7 +2,7 @@ import itertools
 import random
 import unittest
 
-from beatscan.codes import class_net, end_net, rules_in, state_bits, step_net
+from beatscan.codes import class_net, end_net, rules_in, step_net
 from beatscan.fooled import check_circuit, circuit_of, circuit_run, failing_packet
 from beatscan.nets import net_told
 from beatscan.papers import is_paper, paper_of
