@@ -37,8 +37,7 @@ def endings_of_states(table):
 def endings_of_pairs(table):
     """A dict from the pairs of states, the lesser first, to bytes on which they are told apart, as few as can be."""
     ends = table[3]
-    states = range(len(ends))
-    pairs = [(low, high) for high in states for low in range(high)]
+    pairs = [(low, high) for high in range(len(ends)) for low in range(high)]
     found = {(low, high): () for low, high in pairs if ends[low] != ends[high]}
     waiting = [pair for pair in pairs if pair not in found]
     tries = tries_of(table[0])

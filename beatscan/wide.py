@@ -18,7 +18,7 @@ def wide_net(nets, width, bits):
     told = []
     for lane in range(width):
         is_there = first + LANE_BITS * lane
-        number = grown.placed(class_one, range(is_there + 1, is_there + LANE_BITS))
+        number = grown.placed(class_one, tuple(range(is_there + 1, is_there + LANE_BITS)))
         found = grown.placed(step_one, number + state)
         behind = found[:bits]
         state = tuple([grown.gate((is_there, old, new), CHOICE) for old, new in zip(state, behind)])

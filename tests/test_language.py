@@ -6,6 +6,10 @@ import pathlib
 import unittest
 
 PACKAGE = pathlib.Path(__file__).resolve().parent.parent / "beatscan"
+# What these return is walked on the spot (L23), and what may walk it as its first argument.
+WALKED = {"range", "zip", "enumerate", "reversed", "map"}
+WALKED_METHODS = {"items", "keys", "values"}
+WALKERS = {"list", "tuple", "dict", "sorted", "sum", "any", "all", "enumerate", "zip", "min", "max"}
 BARRED = {"register", "mro", "elements", "open", "input", "law", "version_info", "with_traceback", "add_note"}
 
 
@@ -32,6 +36,33 @@ def bound_names(tree):
             yield node.name
         elif isinstance(node, ast.alias):
             yield node.name
+
+
+def is_walked(node):
+    """Whether a node is a call of what must be walked on the spot."""
+    if not isinstance(node, ast.Call):
+        return False
+    if isinstance(node.func, ast.Attribute):
+        return node.func.attr in WALKED_METHODS
+    return isinstance(node.func, ast.Name) and node.func.id in WALKED
+
+
+def is_walked_on_the_spot(node, parent):
+    """Whether a call of this kind stands where it is walked at once."""
+    if isinstance(parent, (ast.For, ast.comprehension)):
+        return parent.iter is node
+    if isinstance(parent, ast.Call) and isinstance(parent.func, ast.Name) and parent.args[:1] == [node]:
+        if parent.func.id == "reversed":
+            return isinstance(node.func, ast.Name) and node.func.id == "range"
+        # Beside another argument, min and max would compare it.
+        return parent.func.id in WALKERS and (parent.func.id not in ("min", "max") or len(parent.args) == 1)
+    return False
+
+
+def kept_walks(text):
+    """The rows of a text in which such a call is passed on, kept or returned."""
+    parents = [(node, part) for node in ast.walk(ast.parse(text)) for part in ast.iter_child_nodes(node)]
+    return sorted(part.lineno for node, part in parents if is_walked(part) and not is_walked_on_the_spot(part, node))
 
 
 class Language(unittest.TestCase):
@@ -79,3 +110,17 @@ class Language(unittest.TestCase):
                 self.assertNotIsInstance(node, (ast.Global, ast.AsyncFunctionDef, ast.Div), name)
                 if isinstance(node, ast.Constant):
                     self.assertNotIsInstance(node.value, (float, complex), name)
+
+    def test_ranges_and_the_like_are_walked_on_the_spot(self):
+        for path in files():
+            self.assertEqual(kept_walks(path.read_text(encoding="ascii")), [], path)
+
+    def test_what_counts_as_walked_on_the_spot(self):
+        for text in ("for k in range(3): pass", "[k for k, v in d.items()]", "list(range(3))", "dict(zip(a, b))",
+                     "tuple(reversed(range(3)))", "max(d.values())", "max(d.values(), default=0)", "sum(x for x in zip(a, b))",
+                     "for k, v in enumerate(zip(a, b)): pass"):
+            self.assertEqual(kept_walks(text), [], text)
+        for text in ("f(range(3))", "x.f(a, range(3))", "a = range(3)", "return_ = [range(3)]", "f(*zip(a, b))",
+                     "a = d.items()", "lambda: d.keys()", "len(d.values())", "range(3) == a", "list(reversed(d.items()))",
+                     "max(range(3), a)", "list(zip(a, range(3)))", "set(range(3))", "f(x=enumerate(a))", "a, b = zip(c, d)"):
+            self.assertEqual(kept_walks(text), [1], text)
