@@ -4,7 +4,7 @@ import unittest
 from beatscan.bookreader import read_book
 from beatscan.codes import rules_in
 from beatscan.errors import BadThing
-from beatscan.images import image_of, table_by
+from beatscan.images import check_of, image_of, table_by
 from beatscan.tables import table_of
 from tests.books import EXAMPLE, TEXTS, any_table, least_of, random_tables, tables
 
@@ -127,3 +127,18 @@ class Images(unittest.TestCase):
             other[one], other[two] = other[two], other[one]
             if tuple(other) != image:
                 self.refuse(tuple(other))
+
+    def test_bytes_that_are_checked_but_tell_of_no_table(self):
+        # Each image has right bytes behind, that check those ahead.
+        body = image_of(least_of("x: ^ ab"), 1)[:-4]
+        table_by(body + check_of(body))
+        ways = 4 + 256
+        for at, byte in ((0, 0), (0, 9), (0, 255), (1, 0), (1, 255), (2, 1), (3, 0), (3, 2), (4, 3), (4, 255), (ways, 1),
+                         (ways + 1, 3), (-1, 2), (-1, 128)):
+            other = list(body)
+            other[at] = byte
+            if tuple(other) != body:
+                self.refuse((*other, *check_of(other)))
+        # Class 1 stands for byte 97 alone: without it there would be a gap.
+        self.assertEqual([at for at in range(ways) if at >= 4 and body[at] == 1], [4 + 97])
+        self.refuse(body[:4 + 97] + (0,) + body[4 + 98:] + check_of(body[:4 + 97] + (0,) + body[4 + 98:]))

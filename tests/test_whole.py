@@ -5,6 +5,7 @@ from beatscan.beats import are_beats, cut_packet, mixed, packets_in
 from beatscan.bookreader import read_book
 from beatscan.bookwriting import book_text
 from beatscan.clocks import fed, most_clocks
+from beatscan.codes import state_bits
 from beatscan.derivatives import has_empty
 from beatscan.errors import BadBook, BadText, BadThing
 from beatscan.least import least
@@ -130,6 +131,18 @@ class Whole(unittest.TestCase):
                 many += len(self.check(text, beats, width, dice.randint(3, 6), width + dice.randint(1, 8),
                                        dice.choice(readers(dice, 25))))
         self.assertGreater(many, 150)
+
+    def test_the_machines_are_of_the_least_table(self):
+        larger = 0
+        for text in TEXTS + [BOOK_OF_1]:
+            table = least_table(text)[1]
+            larger += len(table_of(read_book(text))[1]) > len(table[1])
+            self.assertEqual(gates_for(text, 1, 3).bits, state_bits(table))
+            machine = clocked_for(text, 4, 5)
+            packets = [(97, 98), (99,), (), (100, 97, 98), (48, 49)]
+            fed(machine, [(flow, True, packet, False) for flow, packet in enumerate(packets)], [])
+            self.assertEqual(machine.store, {flow: state_behind(table, packet) for flow, packet in enumerate(packets)})
+        self.assertGreater(larger, 5)
 
     def test_each_report_once_and_in_order(self):
         dice = random.Random(294)
